@@ -2,7 +2,10 @@
 
 from bestpairs.faults import Fault
 from bestpairs.listing import listing_of
-from bestpairs.pairs import Side, candidates_of, pairs_of, unbeaten_among
+from bestpairs.pairs import (
+    Side, beats, candidates_of, pair_values, pairs_of, shared_keys, unbeaten_among, unbeaten_items
+)
+from bestpairs.preferences import Preferences, liked_among
 
 LOAD = 0
 FIRST = 0
@@ -15,14 +18,16 @@ WRONG_MEASURES = -3
 WRONG_KEYS = -4
 UNLIKE = -5
 NO_OTHER_LIST = -6
+OVER_ITSELF = -8
 
 
 class Held:
-    """What the calls work on: none, one or both lists, and the measures that are added up."""
+    """What the calls work on: none, one or both lists, the measures that are added up, and preferences."""
 
     def __init__(self):
         self.sides = []
         self.added = []
+        self.preferences = Preferences()
 
 
 def has_other(held):
@@ -45,7 +50,13 @@ def take_list(held, which, text):
     # Only what stands ahead of the new list stays: a new first one leaves no second.
     held.sides = held.sides[:which] + [Side(listing)]
     held.added = []
+    if which == FIRST:
+        held.preferences = Preferences()
     return [1, len(listing.ups), len(listing.rows)]
+
+
+def is_key(number):
+    return 0 <= number <= GREATEST_KEY
 
 
 def answer_keys(held, given):
@@ -56,15 +67,13 @@ def answer_keys(held, given):
     if which == SECOND and not has_other(held):
         return [NO_OTHER_LIST]
     side = held.sides[which]
-    if len(keys) != len(side.rows) or not all([0 <= key <= GREATEST_KEY for key in keys]):
+    if len(keys) != len(side.rows) or not all([is_key(key) for key in keys]):
         return [WRONG_KEYS]
     side.item_keys = keys
     return [1]
 
 
 def answer_sums(held, given):
-    if not has_other(held):
-        return [NO_OTHER_LIST]
     first_ups = held.sides[FIRST].ups
     second_ups = held.sides[SECOND].ups
     if len(given[0]) != len(given[1]):
@@ -83,26 +92,87 @@ def are_measures(numbers, ups):
     return len(set(numbers)) == len(numbers) and all([0 <= number < len(ups) for number in numbers])
 
 
+def flat(pairs):
+    numbers = []
+    for pair in pairs:
+        numbers.extend(pair)
+    return numbers
+
+
 def answer_join(held, given):
-    if not has_other(held):
-        return [NO_OTHER_LIST]
     first = held.sides[FIRST]
     second = held.sides[SECOND]
     candidates = candidates_of(first, second)
     unbeaten = unbeaten_among(first, second, held.added, candidates)
-    told = [len(pairs_of(first, second)), len(candidates), len(unbeaten)]
-    for pair in unbeaten:
-        told.extend(pair)
+    return [len(pairs_of(first, second)), len(candidates), len(unbeaten)] + flat(unbeaten)
+
+
+def answer_pair(held, given):
+    first = held.sides[FIRST]
+    second = held.sides[SECOND]
+    i = given[0]
+    j = given[1]
+    if not 0 <= i < len(first.rows) or not 0 <= j < len(second.rows):
+        return [NO_SUCH]
+    if first.item_keys[i] != second.item_keys[j]:
+        return [UNLIKE]
+    own = pair_values(first.rows[i], second.rows[j], held.added)
+    # A pair that is beaten at all is beaten by an unbeaten one, so no others are looked at.
+    for rival in unbeaten_among(first, second, held.added, candidates_of(first, second)):
+        if beats(pair_values(first.rows[rival[0]], second.rows[rival[1]], held.added), own):
+            return [0] + list(rival) + own
+    return [1] + own
+
+
+def answer_prefer(held, given):
+    one = given[0]
+    another = given[1]
+    if not is_key(one) or not is_key(another):
+        return [WRONG_KEYS]
+    if held.preferences.would_turn_round(one, another):
+        return [OVER_ITSELF]
+    held.preferences.tell(one, another)
+    return [len(held.preferences.following)]
+
+
+def answer_liked(held, given):
+    first = held.sides[FIRST]
+    second = held.sides[SECOND]
+    liked = liked_among(first, second, held.added, held.preferences, candidates_of(first, second))
+    return [len(liked)] + flat(liked)
+
+
+def answer_groups(held, given):
+    shared = shared_keys(held.sides[FIRST], held.sides[SECOND])
+    told = [len(shared)]
+    for key in shared:
+        told.append(key)
+        for side in held.sides:
+            best = unbeaten_items(side, key)
+            told.append(len(best))
+            told.extend(best)
     return told
 
 
-# By a call's number: what answers it, how many whole numbers and how many rows it is given.
+def answer_forget(held, given):
+    count = len(held.preferences.told)
+    held.preferences = Preferences()
+    return [count]
+
+
+# By a call's number: what answers it, how many whole numbers and how many rows it is given, and whether it is
+# refused ahead of all else it refuses if there is no other list.
 CALLS = (
-    (answer_load, 0, 1),
-    (answer_other, 0, 1),
-    (answer_keys, 1, 1),
-    (answer_sums, 0, 2),
-    (answer_join, 0, 0),
+    (answer_load, 0, 1, False),
+    (answer_other, 0, 1, False),
+    (answer_keys, 1, 1, False),
+    (answer_sums, 0, 2, True),
+    (answer_join, 0, 0, True),
+    (answer_pair, 2, 0, True),
+    (answer_prefer, 2, 0, False),
+    (answer_liked, 0, 0, True),
+    (answer_groups, 0, 0, True),
+    (answer_forget, 0, 0, False),
 )
 
 
@@ -114,8 +184,14 @@ def count_rows(call):
     return CALLS[call][2]
 
 
+def needs_other(call):
+    return CALLS[call][3]
+
+
 def answer(held, call, given):
     if call != LOAD and len(held.sides) == 0:
         return [NO_LIST]
+    if needs_other(call) and not has_other(held):
+        return [NO_OTHER_LIST]
     answer_call = CALLS[call][0]
     return answer_call(held, given)

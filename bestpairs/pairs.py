@@ -14,14 +14,16 @@ def turned(row, ups):
     return [value if up else -value for value, up in zip(row, ups)]
 
 
-def beats(one, another):
-    # Values that are no less anywhere and are not the same are greater somewhere.
-    if one == another:
-        return False
+def is_no_less(one, another):
     for mine, theirs in zip(one, another):
         if mine < theirs:
             return False
     return True
+
+
+def beats(one, another):
+    # Values that are no less anywhere and are not the same are greater somewhere.
+    return one != another and is_no_less(one, another)
 
 
 def is_unbeaten(values, rivals):
@@ -38,6 +40,17 @@ def rows_with_key(side, wanted):
 def unbeaten_marks(side):
     """For each item whether nobody with the same key in its own list beats it."""
     return [is_unbeaten(row, rows_with_key(side, key)) for row, key in zip(side.rows, side.item_keys)]
+
+
+def unbeaten_items(side, wanted):
+    """The items with this key that nobody with this key in their own list beats."""
+    marks = unbeaten_marks(side)
+    return [item for item, key in enumerate(side.item_keys) if key == wanted and marks[item]]
+
+
+def shared_keys(first, second):
+    """The keys that have pairs, in order."""
+    return sorted(set(first.item_keys) & set(second.item_keys))
 
 
 def pairs_of(first, second):

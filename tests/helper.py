@@ -1,4 +1,4 @@
-"""Calls written and answers read for the tests, and a plain join to hold the program's against."""
+"""Calls written and answers read for the tests, and plain counts over all pairs to hold the program's against."""
 
 from bestpairs.joins import answers
 
@@ -31,6 +31,26 @@ def join():
     return [4]
 
 
+def pair(i, j):
+    return [5, i, j]
+
+
+def prefer(one, another):
+    return [6, one, another]
+
+
+def liked():
+    return [7]
+
+
+def groups():
+    return [8]
+
+
+def forget():
+    return [9]
+
+
 def parted(told):
     """What `answers` gives back, as one list for each call."""
     found = []
@@ -46,7 +66,7 @@ def parted(told):
 
 def ask(*calls):
     """The answers to these calls, one list for each."""
-    found = parted(answers([number for call in calls for number in call]))
+    found = parted(answers(flat(calls)))
     if len(found) != len(calls):
         raise AssertionError(f"{len(calls)} calls, {len(found)} answers")
     return found
@@ -54,6 +74,10 @@ def ask(*calls):
 
 def last(*calls):
     return ask(*calls)[-1]
+
+
+def flat(parts):
+    return [number for part in parts for number in part]
 
 
 def list_text(ups, rows):
@@ -65,14 +89,33 @@ def list_text(ups, rows):
     return "".join(lines)
 
 
-class Case:
-    """Two lists with keys and sums, as numbers."""
+def reached_from(key, told):
+    """The keys that this one is preferred to, by what was told and what follows, walked step by step."""
+    found = []
+    ahead = [key]
+    while ahead:
+        upper = ahead.pop()
+        for one, two in told:
+            if one == upper and two not in found:
+                found.append(two)
+                ahead.append(two)
+    return found
 
-    def __init__(self, first_ups, first, first_keys, second_ups, second, second_keys, added=()):
+
+class Case:
+    """Two lists with keys, sums and preferences, as numbers."""
+
+    def __init__(self, first_ups, first, first_keys, second_ups, second, second_keys, added=(), told=()):
         self.ups = (first_ups, second_ups)
         self.rows = (first, second)
         self.keys = (first_keys, second_keys)
         self.added = list(added)
+        self.told = list(told)
+
+    def with_told(self, told):
+        return Case(
+            self.ups[0], self.rows[0], self.keys[0], self.ups[1], self.rows[1], self.keys[1], self.added, told
+        )
 
     def calls(self):
         return [
@@ -81,14 +124,19 @@ class Case:
             keys(0, self.keys[0]),
             keys(1, self.keys[1]),
             sums([one for one, two in self.added], [two for one, two in self.added]),
-        ]
+        ] + [prefer(one, two) for one, two in self.told]
+
+    def answered(self, *calls):
+        """The program's answers to these calls, behind those that make the case."""
+        ready = self.calls()
+        found = ask(*ready, *calls)
+        taken = found[:len(ready)]
+        if any(answered[0] < 0 for answered in taken) or taken[0][0] != 1 or taken[1][0] != 1:
+            raise AssertionError(f"not taken: {taken}")
+        return found[len(ready):]
 
     def joined(self):
-        """The program's answer to join."""
-        found = ask(*self.calls(), join())
-        if any(answered[0] < 0 for answered in found) or found[0][0] != 1 or found[1][0] != 1:
-            raise AssertionError(f"not taken: {found}")
-        return found[-1]
+        return self.answered(join())[0]
 
     def item_beats(self, side, one, another):
         """Whether an item beats another one, straight from the words."""
@@ -141,8 +189,44 @@ class Case:
 
     def plain_join(self):
         unbeaten = self.unbeaten()
-        flat = [number for pair in unbeaten for number in pair]
-        return [len(self.pairs()), len(self.candidates()), len(unbeaten)] + flat
+        return [len(self.pairs()), len(self.candidates()), len(unbeaten)] + flat(unbeaten)
+
+
+    def plain_pair(self, i, j):
+        if i not in range(len(self.rows[0])) or j not in range(len(self.rows[1])):
+            return [-2]
+        if self.keys[0][i] != self.keys[1][j]:
+            return [-5]
+        rivals = [rival for rival in self.unbeaten() if self.pair_beats(rival, (i, j))]
+        return ([0, *rivals[0]] if rivals else [1]) + self.values(i, j)
+
+    def is_liked_better(self, one, another):
+        mine, theirs = self.values(*one), self.values(*another)
+        upper, lower = self.keys[0][one[0]], self.keys[0][another[0]]
+        if not all(a >= b for a, b in zip(mine, theirs)):
+            return False
+        if upper != lower and lower not in reached_from(upper, self.told):
+            return False
+        return mine != theirs or upper != lower
+
+    def liked(self):
+        """The liked among all pairs: candidates are not used here."""
+        pairs = self.pairs()
+        return [pair for pair in pairs if not any(self.is_liked_better(rival, pair) for rival in pairs)]
+
+    def plain_liked(self):
+        found = self.liked()
+        return [len(found)] + flat(found)
+
+    def plain_groups(self):
+        found = sorted({self.keys[0][i] for i, j in self.pairs()})
+        told = [len(found)]
+        for key in found:
+            told.append(key)
+            for side in (0, 1):
+                same = [item for item, own in enumerate(self.keys[side]) if own == key]
+                told += row([item for item in same if not self.has_better_namesake(side, item)])
+        return told
 
 
 class Numbers:
@@ -167,17 +251,52 @@ def mixed_sums(numbers, ups):
     """Measures to be added up, each once, of the same direction."""
     added = []
     for one in range(len(ups[0])):
-        two = numbers.below(len(ups[1]))
-        if ups[0][one] == ups[1][two] and two not in [pair[1] for pair in added] and numbers.below(2):
-            added.insert(numbers.below(len(added) + 1), (one, two))
+        taken = [pair[1] for pair in added]
+        free = [two for two in range(len(ups[1])) if ups[1][two] == ups[0][one] and two not in taken]
+        if free and numbers.below(3):
+            added.insert(numbers.below(len(added) + 1), (one, free[numbers.below(len(free))]))
     return added
+
+
+def mixed_told(numbers, bound):
+    """Preferences to be told one behind another, none of which makes a key preferred to itself."""
+    told = []
+    for draw in range(numbers.below(8)):
+        one, two = numbers.below(bound), numbers.below(bound)
+        if one != two and one not in reached_from(two, told):
+            told.append((one, two))
+    return told
+
+
+def drawn_case(numbers, most_measures, most_items, spread, most_keys):
+    ups = [[numbers.below(2) == 1 for measure in range(1 + numbers.below(most_measures))] for side in (0, 1)]
+    if numbers.below(2):
+        # Like directions, so that many can be added up.
+        ups[1] = ups[0][::-1]
+    rows = [mixed_rows(numbers, len(ups[side]), most_items, spread) for side in (0, 1)]
+    given = [[numbers.below(most_keys) for item in rows[side]] for side in (0, 1)]
+    return Case(ups[0], rows[0], given[0], ups[1], rows[1], given[1], mixed_sums(numbers, ups))
 
 
 def mixed_case(seed, most_items=8):
     numbers = Numbers(seed)
-    ups = [[numbers.below(2) == 1 for measure in range(1 + numbers.below(4))] for side in (0, 1)]
-    spread = (1, 3, 1000)[numbers.below(3)]
-    rows = [mixed_rows(numbers, len(ups[side]), most_items, spread) for side in (0, 1)]
-    most_keys = (1, 2, 3, 8)[numbers.below(4)]
+    return drawn_case(numbers, 4, most_items, (1, 3, 1000)[numbers.below(3)], (1, 2, 3, 8)[numbers.below(4)])
+
+
+def preferring_case(seed, most_items=10):
+    """Preferences too, and few values, so that the keys often count."""
+    numbers = Numbers(seed)
+    most_keys = (2, 3, 4, 8)[numbers.below(4)]
+    case = drawn_case(numbers, 2, most_items, 1 + numbers.below(3), most_keys)
+    return case.with_told(mixed_told(numbers, most_keys))
+
+
+def summing_case(seed, most_items=8):
+    """All measures added up, so that candidates of one key often beat one another; and preferences."""
+    numbers = Numbers(seed)
+    ups = [True, False]
+    rows = [mixed_rows(numbers, 2, most_items, 4) for side in (0, 1)]
+    most_keys = 1 + numbers.below(3)
     given = [[numbers.below(most_keys) for item in rows[side]] for side in (0, 1)]
-    return Case(ups[0], rows[0], given[0], ups[1], rows[1], given[1], mixed_sums(numbers, ups))
+    added = ([(0, 0), (1, 1)], [(1, 1), (0, 0)])[numbers.below(2)]
+    return Case(ups, rows[0], given[0], ups, rows[1], given[1], added, mixed_told(numbers, most_keys))

@@ -1,13 +1,9 @@
 import unittest
 
-from tests.helper import Case, join, last, list_text, load, mixed_case, other
+from tests.helper import Case, flat, join, last, list_text, load, mixed_case, other, summing_case
 
 UP = [True]
 DOWN = [False]
-
-
-def flat(pairs):
-    return [number for pair in pairs for number in pair]
 
 
 class Join(unittest.TestCase):
@@ -80,6 +76,15 @@ class AgainstAPlainCount(unittest.TestCase):
         for seed in range(600):
             case = mixed_case(seed)
             self.assertEqual(case.joined(), case.plain_join(), seed)
+
+    def test_all_measures_added_up(self):
+        fewer = 0
+        for seed in range(600, 800):
+            case = summing_case(seed)
+            found = case.joined()
+            self.assertEqual(found, case.plain_join(), seed)
+            fewer += found[2] < found[1]
+        self.assertGreater(fewer, 20)
 
     def test_long_mixed_lists(self):
         for seed in range(1000, 1012):

@@ -112,6 +112,16 @@ class Language(unittest.TestCase):
                 if isinstance(node, ast.Attribute):
                     self.assertIn(node.attr, own | set(PYTHON_METHODS), node.lineno)
 
+    def test_no_name_is_a_method_here_and_a_value_there(self):
+        methods, given = set(), set()
+        for path in self.each():
+            nodes = nodes_of(path)
+            for node in nodes:
+                if isinstance(node, ast.ClassDef):
+                    methods |= {part.name for part in node.body if isinstance(part, ast.FunctionDef)}
+            given |= {n.attr for n in nodes if isinstance(n, ast.Attribute) and isinstance(n.ctx, ast.Store)}
+        self.assertEqual(methods & given, set())
+
     def test_words_that_stand_nowhere(self):
         for path in self.each():
             words = re.findall(r"[A-Za-z0-9_]+", path.read_text("utf-8"))

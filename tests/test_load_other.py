@@ -1,6 +1,6 @@
 import unittest
 
-from tests.helper import ask, join, keys, last, load, other, sums
+from tests.helper import ask, forget, groups, join, keys, last, liked, load, other, pair, prefer, sums
 
 FIRST = "measures p down, q up ; item a : 1, 5 ; item b : 2, 4 ; item c : 3, 9 ;"
 SECOND = "measures c down, s up ; item x : 3, 5 ; item y : 2, 5 ; item z : 9, 9 ;"
@@ -65,11 +65,23 @@ class Again(unittest.TestCase):
 
 class NoList(unittest.TestCase):
     def test_every_call_but_load_is_refused(self):
-        found = ask(
+        refused = [
             other(SECOND), other(""), keys(0, []), keys(5, [9]), keys(1, []), sums([], []), sums([1], []), join(),
-            load(FIRST), join(),
+            pair(0, 0), pair(-1, 10 ** 18), prefer(1, 0), prefer(0, 0), prefer(8, -1), liked(), groups(), forget(),
+        ]
+        self.assertEqual({call[0] for call in refused}, set(range(1, 10)))
+        self.assertEqual(ask(*refused), [[-1]] * len(refused))
+        self.assertEqual(ask(load(""), *refused), [[0, 3, 0]] + [[-1]] * len(refused))
+        found = ask(*refused, load(FIRST), join(), forget())
+        self.assertEqual(found[len(refused):], [[1, 2, 3], [-6], [0]])
+
+    def test_without_another_list_just_those_that_need_it_are_refused(self):
+        needing = (keys(1, []), sums([], []), join(), pair(0, 0), liked(), groups())
+        self.assertEqual(ask(load(FIRST), *needing), [[1, 2, 3]] + [[-6]] * len(needing))
+        self.assertEqual(
+            ask(load(FIRST), keys(0, [1, 2, 3]), prefer(1, 2), forget(), other(SECOND)),
+            [[1, 2, 3], [1], [1], [1], [1, 2, 3]],
         )
-        self.assertEqual(found, [[-1]] * 8 + [[1, 2, 3], [-6]])
 
     def test_a_list_without_items_is_a_list(self):
         self.assertEqual(

@@ -1,0 +1,46 @@
+"""Keys preferred to one another, and the pairs that are liked."""
+
+from bestpairs.pairs import is_no_less, pair_values
+
+
+class Preferences:
+    """Two keys each, the preferred one first: those that were told, and all that follow, with those told."""
+
+    def __init__(self):
+        self.told = []
+        self.following = []
+
+    def is_preferred(self, one, another):
+        return (one, another) in self.following
+
+    def would_turn_round(self, one, another):
+        """Whether a key would be preferred to itself if one were preferred to another."""
+        return one == another or self.is_preferred(another, one)
+
+    def tell(self, one, another):
+        # What is told twice is still one preference.
+        if (one, another) not in self.told:
+            self.told.append((one, another))
+        above = [one] + [upper for upper, lower in self.following if lower == one]
+        below = [another] + [lower for upper, lower in self.following if upper == another]
+        for upper in above:
+            self.following.extend([(upper, lower) for lower in below if not self.is_preferred(upper, lower)])
+
+
+def is_liked_better(rival, own, preferences):
+    """Whether a pair is liked better than another one; of each its key and its values."""
+    if rival == own or not is_no_less(rival[1], own[1]):
+        return False
+    return rival[0] == own[0] or preferences.is_preferred(rival[0], own[0])
+
+
+def is_liked(own, rivals, preferences):
+    for rival in rivals:
+        if is_liked_better(rival, own, preferences):
+            return False
+    return True
+
+
+def liked_among(first, second, added, preferences, pairs):
+    seen = [(first.item_keys[i], pair_values(first.rows[i], second.rows[j], added)) for i, j in pairs]
+    return [pair for pair, own in zip(pairs, seen) if is_liked(own, seen, preferences)]
