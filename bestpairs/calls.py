@@ -2,9 +2,7 @@
 
 from bestpairs.faults import Fault
 from bestpairs.listing import listing_of
-from bestpairs.pairs import (
-    Side, beats, candidates_of, pair_values, pairs_of, shared_keys, unbeaten_among, unbeaten_items
-)
+from bestpairs.pairs import Side, beats, best_items, candidates_of, pair_values, pairs_of, shared_keys, unbeaten_among
 from bestpairs.preferences import Preferences, liked_among
 
 LOAD = 0
@@ -148,7 +146,7 @@ def answer_groups(held, given):
     for key in shared:
         told.append(key)
         for side in held.sides:
-            best = unbeaten_items(side, key)
+            best = best_items(side, key)
             told.append(len(best))
             told.extend(best)
     return told

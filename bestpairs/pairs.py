@@ -42,7 +42,7 @@ def unbeaten_marks(side):
     return [is_unbeaten(row, rows_with_key(side, key)) for row, key in zip(side.rows, side.item_keys)]
 
 
-def unbeaten_items(side, wanted):
+def best_items(side, wanted):
     """The items with this key that nobody with this key in their own list beats."""
     marks = unbeaten_marks(side)
     return [item for item, key in enumerate(side.item_keys) if key == wanted and marks[item]]
