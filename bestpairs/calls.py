@@ -153,7 +153,7 @@ def answer_groups(held, given):
 
 
 def answer_forget(held, given):
-    count = len(held.preferences.told)
+    count = held.preferences.told_count
     held.preferences = Preferences()
     return [count]
 

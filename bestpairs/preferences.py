@@ -4,10 +4,10 @@ from bestpairs.pairs import is_no_less, pair_values
 
 
 class Preferences:
-    """Two keys each, the preferred one first: those that were told, and all that follow, with those told."""
+    """How many were told, and all that follow, with those told: two keys each, the preferred one first."""
 
     def __init__(self):
-        self.told = []
+        self.told_count = 0
         self.following = []
 
     def is_preferred(self, one, another):
@@ -18,9 +18,8 @@ class Preferences:
         return one == another or self.is_preferred(another, one)
 
     def tell(self, one, another):
-        # What is told twice is still one preference.
-        if (one, another) not in self.told:
-            self.told.append((one, another))
+        # Each telling counts, though one told again adds nothing to what follows.
+        self.told_count += 1
         above = [one] + [upper for upper, lower in self.following if lower == one]
         below = [another] + [lower for upper, lower in self.following if upper == another]
         for upper in above:

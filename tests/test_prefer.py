@@ -123,11 +123,25 @@ class Forget(unittest.TestCase):
         self.assertEqual(last(*BOTH, prefer(0, 1), prefer(1, 2), forget()), [2])
         self.assertEqual(last(*BOTH, prefer(0, 1), prefer(1, 2), prefer(0, 2), forget()), [3])
 
-    def test_one_told_again_is_one(self):
-        self.assertEqual(last(*BOTH, prefer(0, 1), prefer(0, 1), prefer(2, 1), prefer(0, 1), forget()), [2])
+    def test_one_told_again_counts_again(self):
+        self.assertEqual(last(*BOTH, prefer(0, 1), prefer(0, 1), forget()), [2])
+        self.assertEqual(last(*BOTH, prefer(0, 1), prefer(0, 1), prefer(2, 1), prefer(0, 1), forget()), [4])
+
+    def test_one_told_as_often_as_a_line_allows(self):
+        self.assertEqual(after(ONE, *[prefer(6, 7)] * 58, forget()), [[1]] * 58 + [[58]])
+
+    def test_told_again_after_forget_begins_anew(self):
+        self.assertEqual(
+            after(BOTH, prefer(0, 1), prefer(0, 1), forget(), prefer(0, 1), forget()), [[1], [1], [2], [1], [1]]
+        )
+
+    def test_told_again_is_forgotten_whole(self):
+        self.assertEqual(after(BOTH, prefer(0, 1), prefer(0, 1), forget(), prefer(1, 0))[-1], [1])
 
     def test_refused_ones_were_not_told(self):
-        self.assertEqual(last(*BOTH, prefer(0, 1), prefer(1, 0), prefer(2, 2), prefer(8, 0), forget()), [1])
+        refused = (prefer(1, 0), prefer(2, 2), prefer(8, 0))
+        self.assertEqual(last(*BOTH, prefer(0, 1), *refused, forget()), [1])
+        self.assertEqual(last(*BOTH, prefer(0, 1), *refused, *refused, prefer(0, 1), *refused, forget()), [2])
 
     def test_what_was_forgotten_stands_against_nothing(self):
         self.assertEqual(
@@ -138,19 +152,24 @@ class Forget(unittest.TestCase):
         self.assertEqual(after(ONE, prefer(0, 1), forget(), forget()), [[1], [1], [0]])
 
     def test_mixed(self):
+        again = 0
         for seed in range(100):
             told = mixed_told(Numbers(seed), 4)
-            self.assertEqual(last(*BOTH, *tell_all(told), forget()), [len(set(told))], seed)
+            self.assertEqual(last(*BOTH, *tell_all(told), forget()), [len(told)], seed)
+            again += len(set(told)) < len(told)
+        self.assertGreater(again, 10)
 
 
 class Kept(unittest.TestCase):
     def test_load_leaves_no_preferences(self):
         self.assertEqual(after(BOTH, prefer(0, 1), prefer(1, 2), *ONE, forget())[-1], [0])
+        self.assertEqual(after(BOTH, prefer(0, 1), prefer(0, 1), *ONE, prefer(0, 1), forget())[-1], [1])
         self.assertEqual(after(BOTH, prefer(0, 1), *ONE, prefer(1, 0))[-1], [1])
 
     def test_other_leaves_them(self):
         self.assertEqual(after(ONE, prefer(0, 1), prefer(1, 2), BOTH[1], prefer(2, 0), forget())[-2:], [[-8], [2]])
         self.assertEqual(after(BOTH, prefer(0, 1), prefer(1, 2), BOTH[1], forget())[-1], [2])
+        self.assertEqual(after(BOTH, prefer(0, 1), BOTH[1], prefer(0, 1), forget())[-1], [2])
 
     def test_a_text_that_fails_leaves_them(self):
         for call in (load, other):
